@@ -38,7 +38,7 @@ func someGains(r *rand.Rand, s scene) []api.Gain {
 	return []api.Gain{best, less, more, {Num: 0, Den: 1}, {Num: cell.Worth, Den: 1 + r.Intn(3)}, {Num: 1000000, Den: 1}}
 }
 
-// TestAllWalls: all walls of a few claims on small grounds.
+// TestAllWalls: all walls of up to three numbers, of those about the cells and the edges, on small grounds; each for one of some gains.
 func TestAllWalls(t *testing.T) {
 	r := rand.New(rand.NewSource(30))
 	accepted := 0
